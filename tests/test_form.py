@@ -1,0 +1,89 @@
+"""The form of the package's files, where a test can tell it plainly."""
+
+import ast
+import pathlib
+import unittest
+import warnings
+
+PACKAGE = pathlib.Path(__file__).resolve().parent.parent / "holepairs"
+OUTSIDE = ("heapq", "math", "itertools", "collections")
+BUILTINS = {"len", "range", "enumerate", "zip", "min", "max", "sum", "abs", "sorted", "reversed",
+            "int", "str", "bool", "list", "tuple", "dict", "set", "isinstance", "ord", "repr",
+            "any", "all", "divmod", "map", "iter", "next", "type", "ValueError"}
+BARRED = (ast.Global, ast.AsyncFunctionDef, ast.AsyncFor, ast.AsyncWith, ast.Await, ast.Div)
+
+
+def files():
+    return sorted(PACKAGE.rglob("*.py"))
+
+
+def tree_of(path):
+    return ast.parse(path.read_text(encoding="utf-8"))
+
+
+class FormTest(unittest.TestCase):
+
+    def test_the_folder_holds_python_files_only(self):
+        self.assertTrue((PACKAGE / "__init__.py").is_file())
+        for path in PACKAGE.rglob("*"):
+            if "__pycache__" not in path.parts:
+                self.assertEqual(path.suffix, ".py", path)
+
+    def test_signs_and_lengths(self):
+        for path in files():
+            lines = path.read_text(encoding="utf-8").split("\n")
+            self.assertLessEqual(len(lines), 399, path)
+            for line in lines:
+                self.assertLessEqual(len(line), 120, path)
+                self.assertTrue(all(" " <= sign <= "~" for sign in line), path)
+
+    def test_functions_are_small(self):
+        for path in files():
+            for node in ast.walk(tree_of(path)):
+                if isinstance(node, ast.FunctionDef):
+                    self.assertLessEqual(node.end_lineno - node.lineno + 1, 40, node.name)
+                    self.assertEqual(node.decorator_list, [])
+
+    def test_imports(self):
+        for path in files():
+            for node in ast.walk(tree_of(path)):
+                self.assertNotIsInstance(node, ast.Import, path)
+                if isinstance(node, ast.ImportFrom):
+                    self.assertEqual(node.level, 0, path)
+                    self.assertTrue(node.module.startswith("holepairs.") or node.module in OUTSIDE)
+                    self.assertNotIn("*", [alias.name for alias in node.names])
+
+    def test_statements_and_signs_that_do_not_stand_there(self):
+        for path in files():
+            for node in ast.walk(tree_of(path)):
+                self.assertNotIsInstance(node, BARRED, path)
+                if isinstance(node, ast.Constant):
+                    self.assertNotIsInstance(node.value, (float, complex), path)
+                if isinstance(node, ast.Compare):
+                    self.check_is(node, path)
+
+    def check_is(self, node, path):
+        for sign, other in zip(node.ops, node.comparators):
+            if isinstance(sign, (ast.Is, ast.IsNot)):
+                self.assertIsInstance(other, ast.Constant, path)
+
+    def test_builtins(self):
+        barred = set(vars(__builtins__) if not isinstance(__builtins__, dict) else __builtins__)
+        barred -= BUILTINS
+        for path in files():
+            for node in ast.walk(tree_of(path)):
+                if isinstance(node, ast.Name):
+                    self.assertNotIn(node.id, barred, path)
+                if isinstance(node, (ast.arg, ast.FunctionDef)):
+                    name = node.arg if isinstance(node, ast.arg) else node.name
+                    self.assertNotIn(name, BUILTINS, path)
+
+    def test_no_warnings(self):
+        for path in files():
+            with warnings.catch_warnings():
+                warnings.simplefilter("error")
+                compile(path.read_text(encoding="utf-8"), str(path), "exec")
+
+
+if __name__ == "__main__":
+    unittest.main()

@@ -1,0 +1,46 @@
+"""The interface: its names, where they are defined, and their arguments."""
+
+import inspect
+import unittest
+
+from holepairs import errors, pieces, reckoning, shapes
+
+FUNCTIONS = [(pieces, "is_piece", ["thing"]), (pieces, "sides", ["piece"]),
+             (pieces, "added", ["one", "other"]), (shapes, "exchanged", ["shape", "number"]),
+             (reckoning, "reduced", ["shape"]), (reckoning, "pairs", ["shape"]),
+             (reckoning, "pairs_from_behind", ["shape"])]
+
+METHODS = {"__init__": ["pieces"], "put": ["piece"], "cut": [], "many": [], "pieces": [],
+           "piece": ["number"], "size": ["number"], "sides_of": ["number"],
+           "uppers_of": ["number"], "border": ["numbers"]}
+
+FIELDS = {"BadPiece": ["at"], "Twice": ["at"], "Lacking": ["at", "side"], "BadText": ["line"]}
+
+
+class InterfaceTest(unittest.TestCase):
+
+    def test_functions(self):
+        for module, name, arguments in FUNCTIONS:
+            function = getattr(module, name)
+            self.assertTrue(inspect.isfunction(function))
+            self.assertEqual(function.__module__, module.__name__)
+            self.assertEqual(list(inspect.signature(function).parameters), arguments)
+
+    def test_methods_of_a_shape(self):
+        self.assertEqual(shapes.Shape.__module__, "holepairs.shapes")
+        for name, arguments in METHODS.items():
+            method = vars(shapes.Shape)[name]
+            self.assertEqual(list(inspect.signature(method).parameters), ["self"] + arguments)
+
+    def test_a_shape_needs_no_argument(self):
+        parameter = inspect.signature(shapes.Shape).parameters["pieces"]
+        self.assertIsNone(parameter.default)
+
+    def test_arguments_of_the_refusals(self):
+        for name, arguments in FIELDS.items():
+            kind = getattr(errors, name)
+            self.assertEqual(list(inspect.signature(kind).parameters), arguments)
+
+
+if __name__ == "__main__":
+    unittest.main()
