@@ -13,6 +13,14 @@ FILLED_ROW = HOLLOW_ROW + [(0, 1, 2, 3)]
 OUTLINE_ROW = [(0,), (1,), (2,), (0, 1), (0, 2), (1, 2)]
 TRIANGLE_ROW = OUTLINE_ROW + [(0, 1, 2)]
 
+# A way through four corners, out of order, so that sums are longer than one piece.
+WAY_ROW = [(0,), (1,), (0, 1), (2,), (3,), (2, 3), (1, 2), (0, 3), (0, 2)]
+# Two faces whose rings are others than the sums of the edges that made the holes.
+SQUARE_ROW = [(0,), (1,), (2,), (3,), (0, 1), (0, 3), (1, 3), (0, 2), (1, 2), (2, 3),
+              (1, 2, 3), (0, 2, 3)]
+# All pieces over five corners: four of its blocks leave none, the fifth makes a hole.
+BALL_ROW = [piece for size in range(1, 5) for piece in combinations(range(5), size)]
+
 
 class Odd:
     """A thing that lets nobody look at it."""
@@ -60,6 +68,44 @@ def no_lists():
             range(0), iter([]), object(), list, Ellipsis, Shape(), Odd(), Posing(list)]
 
 
+def no_texts():
+    """Give things that are no text."""
+    return [None, True, False, 0, 1, 1.5, b"", b"0", [], ["0"], (), ("0",), {}, {"0": 0}, set(),
+            {"0"}, range(1), object(), str, Ellipsis, Shape(), Odd(), Posing(str)]
+
+
+def look(shape):
+    """Give all that a shape tells of itself."""
+    numbers = range(shape.many())
+    return (shape.many(), shape.pieces(), [shape.piece(k) for k in numbers],
+            [shape.size(k) for k in numbers], [shape.sides_of(k) for k in numbers],
+            [shape.uppers_of(k) for k in numbers], [shape.border([k]) for k in numbers])
+
+
+def border_masks(row):
+    """Give the border of each piece of a row, one bit for each number."""
+    numbers = {piece: number for number, piece in enumerate(row)}
+    return [sum(1 << numbers[side] for side in all_sides(piece)) for piece in row]
+
+
+def rank(masks):
+    """Give how many of the masks are no sums of such ones ahead."""
+    basis = {}
+    for mask in masks:
+        while mask and mask.bit_length() in basis:
+            mask ^= basis[mask.bit_length()]
+        if mask:
+            basis[mask.bit_length()] = mask
+    return len(basis)
+
+
+def counted(row):
+    """Give how many holes of each size a row has, by the counting of point 8."""
+    masks = border_masks(row)
+    sizes = [[mask for piece, mask in zip(row, masks) if len(piece) == k + 1] for k in range(5)]
+    return [len(sizes[k]) - rank(sizes[k]) - rank(sizes[k + 1]) for k in range(4)]
+
+
 def all_sides(piece):
     """List the sides of a piece, reckoned without the program."""
     if len(piece) == 1:
@@ -101,6 +147,18 @@ def loose_row(seed, corners, many):
         rest.remove(piece)
         row.append(piece)
     return row
+
+
+def reordered(row, seed):
+    """Draw another order of the same pieces, each behind its sides."""
+    draw = Random(seed)
+    rest, told = list(row), []
+    while rest:
+        ready = [piece for piece in rest if all(side in told for side in all_sides(piece))]
+        piece = ready[draw.randrange(len(ready))]
+        rest.remove(piece)
+        told.append(piece)
+    return told
 
 
 def drawn_rows():

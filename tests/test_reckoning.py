@@ -5,7 +5,8 @@ import unittest
 from holepairs.pieces import added
 from holepairs.reckoning import pairs, pairs_from_behind, reduced
 from holepairs.shapes import Shape, exchanged
-from tests.helpers import FILLED_ROW, HOLLOW_ROW, OUTLINE_ROW, TRIANGLE_ROW, drawn_rows
+from tests.helpers import (FILLED_ROW, HOLLOW_ROW, OUTLINE_ROW, TRIANGLE_ROW, WAY_ROW, border_masks,
+                           drawn_rows)
 
 FILLED_REDUCED = [([], [0]), ([], [1]), ([], [2]), ([], [3]),
                   ([0, 1], [4]), ([0, 2], [5]), ([0, 3], [6]),
@@ -13,8 +14,6 @@ FILLED_REDUCED = [([], [0]), ([], [1]), ([], [2]), ([], [3]),
                   ([4, 5, 7], [10]), ([4, 6, 8], [11]), ([5, 6, 9], [12]),
                   ([], [10, 11, 12, 13]), ([10, 11, 12, 13], [14])]
 
-# A way through four corners, out of order, so that sums are longer than one piece.
-WAY_ROW = [(0,), (1,), (0, 1), (2,), (3,), (2, 3), (1, 2), (0, 3), (0, 2)]
 WAY_REDUCED = [([], [0]), ([], [1]), ([0, 1], [2]), ([], [3]), ([], [4]), ([3, 4], [5]),
                ([1, 3], [6]), ([], [2, 5, 6, 7]), ([], [2, 6, 8])]
 
@@ -22,14 +21,7 @@ WAY_REDUCED = [([], [0]), ([], [1]), ([0, 1], [2]), ([], [3]), ([], [4]), ([3, 4
 def independent_counts(row):
     """Give r(i, j) of point 7 as a list of lists, reckoned without the program."""
     many = len(row)
-    numbers = {piece: number for number, piece in enumerate(row)}
-    masks = []
-    for piece in row:
-        mask = 0
-        if len(piece) > 1:
-            for at in range(len(piece)):
-                mask |= 1 << numbers[piece[:at] + piece[at + 1:]]
-        masks.append(mask)
+    masks = border_masks(row)
     counts = []
     for i in range(many + 1):
         basis, found = {}, [0]

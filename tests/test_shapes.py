@@ -7,17 +7,9 @@ from holepairs.errors import BadPiece, BadRow, Full, Lacking, NoPiece, Twice
 from holepairs.pieces import added
 from holepairs.shapes import Shape
 from tests.helpers import (FILLED_ROW, HOLLOW_ROW, OUTLINE_ROW, TRIANGLE_ROW, Odd, Posing,
-                           all_sides, drawn_rows, full_row, no_lists, no_numbers, no_tuples)
+                           all_sides, drawn_rows, full_row, look, no_lists, no_numbers, no_tuples)
 
 MOST = 10 ** 60
-
-
-def look(shape):
-    """Give all that a shape tells of itself."""
-    numbers = range(shape.many())
-    return (shape.many(), shape.pieces(), [shape.piece(k) for k in numbers],
-            [shape.size(k) for k in numbers], [shape.sides_of(k) for k in numbers],
-            [shape.uppers_of(k) for k in numbers], [shape.border([k]) for k in numbers])
 
 
 class PutTest(unittest.TestCase):
