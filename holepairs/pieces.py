@@ -7,13 +7,14 @@ LARGEST_CORNER = 10 ** 60
 def is_whole(thing):
     """Tell of anything whether it is a whole number."""
     # The very kind is asked for: True and False would pass as ints otherwise,
-    # and so would things that only claim to be ints.
-    return type(thing) == int
+    # and so would things that only claim to be ints. It is asked for by `is`,
+    # here and elsewhere: by `==` the kind itself would answer, and as it likes.
+    return type(thing) is int
 
 
 def is_piece(thing):
     """Tell of anything whether it is a piece."""
-    if type(thing) != tuple or not 1 <= len(thing) <= MOST_CORNERS:
+    if type(thing) is not tuple or not 1 <= len(thing) <= MOST_CORNERS:
         return False
     if not all([is_corner(corner) for corner in thing]):
         return False

@@ -16,7 +16,7 @@ class Shape:
 
     def __init__(self, pieces=None):
         row = [] if pieces is None else pieces
-        if type(row) != list:
+        if type(row) is not list:
             raise BadRow("the pieces of a shape come in a list")
         self._pieces = []
         self._numbers = {}

@@ -22,7 +22,7 @@ def read(text):
 
 def words_by_line(text):
     """List for each line of a text the words in which it writes its numbers."""
-    if type(text) != str:
+    if type(text) is not str:
         raise BadText(1)
     if text == "":
         return []

@@ -48,30 +48,72 @@ class Posing:
         return self.kind
 
 
+class Agreeing(type):
+    """A kind of kinds: each says of itself that it is the same as any other."""
+
+    def __eq__(cls, other):
+        return True
+
+    def __ne__(cls, other):
+        return False
+
+    __hash__ = type.__hash__
+
+
+class Denying(type):
+    """A kind of kinds: each says of itself that it is another one than any."""
+
+    def __eq__(cls, other):
+        return False
+
+    def __ne__(cls, other):
+        return True
+
+    __hash__ = type.__hash__
+
+
+class Raising(type):
+    """A kind of kinds that lets nobody ask it anything."""
+
+    def _refuse(cls, *told):
+        raise RuntimeError("not to be asked")
+
+    __eq__ = __ne__ = __hash__ = __getattribute__ = _refuse
+    __instancecheck__ = __subclasscheck__ = _refuse
+
+
+def wayward(base=object, *told):
+    """Give a thing of each such kind of kinds, of a class derived from the base."""
+    return [kind("Wayward", (base,), {})(*told) for kind in (Agreeing, Denying, Raising)]
+
+
 def no_numbers(many):
-    """Give things of which none is a number from 0 and below many (at least 2)."""
+    """Give things of which none is an int itself from 0 and below many (at least 2)."""
     return [-1, -2, -10 ** 60, many, many + 1, 10 ** 60, True, False, None, "", "0", "a", b"0",
             0.0, 1.0, float("nan"), 0j, [], [0], (), (0,), {}, {0: 0}, set(), {0}, frozenset(),
-            range(1), object(), int, len, Ellipsis, Odd(), Posing(int)]
+            range(1), object(), int, len, Ellipsis, Odd(), Posing(int),
+            *wayward(), *wayward(int, 0)]
 
 
 def no_tuples():
-    """Give things that are no tuple at all."""
+    """Give things that are no tuple itself."""
     return [None, True, False, 0, 1, -1, 1.5, "", "0", "01", b"", b"0", [], [0], [0, 1], {},
             {0: 1}, set(), {0}, frozenset((0,)), range(1), iter([0]), object(), tuple, len,
-            Ellipsis, Odd(), Posing(tuple)]
+            Ellipsis, Odd(), Posing(tuple), *wayward(), *wayward(tuple, (0,)), *wayward(list, [0])]
 
 
 def no_lists():
-    """Give things that are no list, and not None."""
+    """Give things that are no list itself, and not None."""
     return [True, False, 0, 1, 1.5, "", "0", b"", (), ((0,),), {}, {(0,): 0}, set(), {(0,)},
-            range(0), iter([]), object(), list, Ellipsis, Shape(), Odd(), Posing(list)]
+            range(0), iter([]), object(), list, Ellipsis, Shape(), Odd(), Posing(list),
+            *wayward(), *wayward(list), *wayward(list, [(0,)]), *wayward(tuple)]
 
 
 def no_texts():
-    """Give things that are no text."""
+    """Give things that are no str itself."""
     return [None, True, False, 0, 1, 1.5, b"", b"0", [], ["0"], (), ("0",), {}, {"0": 0}, set(),
-            {"0"}, range(1), object(), str, Ellipsis, Shape(), Odd(), Posing(str)]
+            {"0"}, range(1), object(), str, Ellipsis, Shape(), Odd(), Posing(str),
+            *wayward(), *wayward(str), *wayward(str, "0")]
 
 
 def look(shape):

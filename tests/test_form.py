@@ -21,6 +21,15 @@ def tree_of(path):
     return ast.parse(path.read_text(encoding="utf-8"))
 
 
+def asks_for_a_kind(node):
+    """Tell of a comparison whether it is `type(x) is int` or the like, `is not` too."""
+    if not isinstance(node.left, ast.Call) or not isinstance(node.left.func, ast.Name):
+        return False
+    return (node.left.func.id == "type" and [type(sign) for sign in node.ops] in ([ast.Is], [ast.IsNot])
+            and isinstance(node.comparators[0], ast.Name)
+            and node.comparators[0].id in ("int", "str", "list", "tuple"))
+
+
 class FormTest(unittest.TestCase):
 
     def test_the_folder_holds_python_files_only(self):
@@ -64,8 +73,18 @@ class FormTest(unittest.TestCase):
 
     def check_is(self, node, path):
         for sign, other in zip(node.ops, node.comparators):
-            if isinstance(sign, (ast.Is, ast.IsNot)):
+            if isinstance(sign, (ast.Is, ast.IsNot)) and not asks_for_a_kind(node):
                 self.assertIsInstance(other, ast.Constant, path)
+
+    def test_a_kind_is_asked_for_by_is(self):
+        # By == or != the kind that is handed in would answer, and as it likes.
+        for path in files():
+            tree = tree_of(path)
+            asked = [node for node in ast.walk(tree)
+                     if isinstance(node, ast.Compare) and asks_for_a_kind(node)]
+            called = [node for node in ast.walk(tree)
+                      if isinstance(node, ast.Name) and node.id == "type"]
+            self.assertEqual(len(asked), len(called), path)
 
     def test_builtins(self):
         barred = set(vars(__builtins__) if not isinstance(__builtins__, dict) else __builtins__)

@@ -8,7 +8,7 @@ from holepairs.keeping import Keeper
 from holepairs.reckoning import pairs
 from holepairs.shapes import Shape
 from tests.helpers import (BALL_ROW, FILLED_ROW, OUTLINE_ROW, SQUARE_ROW, TRIANGLE_ROW, WAY_ROW,
-                           Odd, drawn_rows, full_row, look, no_tuples)
+                           Odd, drawn_rows, full_row, look, no_tuples, wayward)
 
 MOST = 10 ** 60
 
@@ -92,6 +92,7 @@ class RefusedTest(unittest.TestCase):
     def test_bad_pieces(self):
         wrong = no_tuples() + [(), (1, 0), (0, 0), (0, 1, 2, 3, 4), (-1,), (MOST + 1,), (True,),
                                (False, 1), (None,), ("0",), (0.0,), ([0],), ((0,),), (Odd(),)]
+        wrong += [(thing,) for thing in wayward() + wayward(int, 3)]
         for row in [[], OUTLINE_ROW]:
             keeper = kept(row)
             for thing in wrong:

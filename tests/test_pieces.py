@@ -4,7 +4,7 @@ import unittest
 from random import Random
 
 from holepairs.pieces import added, is_piece, sides
-from tests.helpers import Odd, Posing, all_sides, no_tuples
+from tests.helpers import Odd, Posing, all_sides, no_tuples, wayward
 
 MOST = 10 ** 60
 
@@ -50,7 +50,7 @@ class IsPieceTest(unittest.TestCase):
 
     def test_corners_that_are_no_whole_numbers(self):
         odd = [True, False, None, "0", "", b"0", 0.0, 1.0, float("nan"), 1j, (), (0,), [], [0],
-               {}, set(), int, object(), Odd(), Posing(int)]
+               {}, set(), int, object(), Odd(), Posing(int), *wayward(), *wayward(int, 3)]
         for corner in odd:
             for piece in [(corner,), (0, corner), (corner, 5), (0, 1, corner), (0, corner, 5, 6)]:
                 self.assert_none(piece)

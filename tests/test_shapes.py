@@ -7,7 +7,8 @@ from holepairs.errors import BadPiece, BadRow, Full, Lacking, NoPiece, Twice
 from holepairs.pieces import added
 from holepairs.shapes import Shape
 from tests.helpers import (FILLED_ROW, HOLLOW_ROW, OUTLINE_ROW, TRIANGLE_ROW, Odd, Posing,
-                           all_sides, drawn_rows, full_row, look, no_lists, no_numbers, no_tuples)
+                           all_sides, drawn_rows, full_row, look, no_lists, no_numbers, no_tuples,
+                           wayward)
 
 MOST = 10 ** 60
 
@@ -39,6 +40,7 @@ class PutTest(unittest.TestCase):
         wrong = no_tuples() + [(), (1, 0), (0, 0), (0, 1, 2, 3, 4), (-1,), (MOST + 1,), (True,),
                                (False, 1), (None,), ("0",), (0, "1"), (0.0,), ([0],), ((0,),),
                                (Odd(),), (Posing(int),)]
+        wrong += [(thing,) for thing in wayward() + wayward(int, 3)]
         for row in [[], [(0,), (1,)], HOLLOW_ROW]:
             shape = Shape(row)
             for thing in wrong:
@@ -156,7 +158,8 @@ class MadeOfRowsTest(unittest.TestCase):
             self.refused(thing, BadRow)
 
     def test_of_rows_with_a_bad_piece(self):
-        for thing in [None, (1, 0), (True,), [0], "0", (), (MOST + 1,), Odd()]:
+        for thing in [None, (1, 0), (True,), [0], "0", (), (MOST + 1,), Odd(),
+                      *wayward(), *wayward(tuple, (3,))]:
             self.assertEqual(self.refused([thing], BadPiece).at, 0)
             self.assertEqual(self.refused([(0,), (1,), thing, (2,)], BadPiece).at, 2)
 
